@@ -1,0 +1,1 @@
+"""Proofshare: rewriting told in shared steps."""

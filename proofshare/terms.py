@@ -78,7 +78,7 @@ def has_names(equation, filling):
     """Whether each name of the filling is a letter of one of the two sides."""
     left, right = equation
     names = {**names_in(left), **names_in(right)}
-    return all(name in names for name, _ in filling)
+    return all(pair[0] in names for pair in filling)
 
 
 def find_part(term, place):

@@ -1,8 +1,11 @@
-"""Papers: what their steps show, and which steps do not fit."""
+"""Papers: what their steps show, which steps do not fit, and on which ones a step leans.
 
-from proofshare.checks import MOST_PARTS, MOST_SIZE, check_book, check_filling, check_name, check_term
+The functions behind `check_sides` are for steps that are known to fit.
+"""
+
+from proofshare.checks import MOST_PARTS, check_book, check_filling, check_name, check_term
 from proofshare.errors import NoStep
-from proofshare.terms import count_nodes, has_names, put_in, table_of
+from proofshare.terms import has_names, is_too_large, put_in, table_of
 
 MOST_STEPS = 120
 
@@ -118,6 +121,42 @@ def fill_sides(equation, filling, elder):
 def check_sides(equation, elder):
     """The equation itself, where none of its sides is too large."""
     left, right = equation
-    if count_nodes(left) > MOST_SIZE or count_nodes(right) > MOST_SIZE:
+    if is_too_large(left) or is_too_large(right):
         raise NoStep(len(elder), "size")
     return equation
+
+
+def own_steps(step):
+    """The numbers of the steps on which the step leans, in their order."""
+    word = step[0]
+    if word in ("back", "fill"):
+        return (step[1],)
+    if word == "chain":
+        return (step[1], step[2])
+    if word == "under":
+        return step[2]
+    return ()
+
+
+def leaning_on(step, numbers):
+    """The same step, leaning on the steps of these numbers instead."""
+    word = step[0]
+    if word == "back":
+        return ("back", numbers[0])
+    if word == "chain":
+        return ("chain", numbers[0], numbers[1])
+    if word == "under":
+        return ("under", step[1], tuple(numbers))
+    if word == "fill":
+        return ("fill", numbers[0], step[2])
+    return step
+
+
+def needed_steps(steps, last):
+    """The numbers of the steps that the last one needs, ascending."""
+    needs = [False] * last + [True]
+    for number in reversed(range(last + 1)):
+        if needs[number]:
+            for own in own_steps(steps[number]):
+                needs[own] = True
+    return [number for number in range(last + 1) if needs[number]]

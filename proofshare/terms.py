@@ -4,7 +4,7 @@ The first four functions check what they are handed; the others are for terms
 that are known to be such, and of any size.
 """
 
-from proofshare.checks import check_filling, check_term
+from proofshare.checks import MOST_SIZE, check_filling, check_term
 
 
 def size(term):
@@ -48,6 +48,21 @@ def count_nodes(term):
         part = waiting.pop()
         waiting.extend(parts_below(part))
     return many
+
+
+def is_too_large(term):
+    """Whether the size is above 100.
+
+    It ends at the size that is too much, for a walk may lead to terms that
+    are far larger.
+    """
+    waiting = [term]
+    many = 0
+    while waiting and many <= MOST_SIZE:
+        many = many + 1
+        part = waiting.pop()
+        waiting.extend(parts_below(part))
+    return many > MOST_SIZE
 
 
 def names_in(term):

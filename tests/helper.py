@@ -1,4 +1,4 @@
-"""Terms for the tests, and values that are no terms, fillings or books."""
+"""Terms and papers for the tests, and values that are no terms, fillings or books."""
 
 
 def x(name):
@@ -7,6 +7,11 @@ def x(name):
 
 def sign(name, *parts):
     return ("sign", name, parts)
+
+
+def fill(**terms):
+    """A filling."""
+    return tuple(sorted(terms.items()))
 
 
 def tower(many, inner):
@@ -22,6 +27,20 @@ def shared_tower(many):
     for _ in range(many):
         term = sign("two", term, term)
     return term
+
+
+def doubling(times):
+    """Steps of which the last one shows rule 0 turned round at its end, by 2 ** times moves."""
+    steps = [("use", 0, ())]
+    for _ in range(times):
+        last = len(steps) - 1
+        steps.extend([("back", last), ("chain", last, last + 1)])
+    return tuple(steps)
+
+
+def idle(many):
+    """Steps without a move."""
+    return (("same", NIL),) * many
 
 
 NIL = sign("nil")

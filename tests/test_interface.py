@@ -5,7 +5,7 @@ import inspect
 import unittest
 from pathlib import Path
 
-from proofshare import errors, papers, terms, walks
+from proofshare import errors, folding, papers, sharing, terms, texts, unfolding, walks
 
 FOLDER = Path(__file__).resolve().parent.parent / "proofshare"
 
@@ -13,7 +13,12 @@ FUNCTIONS = {
     terms: {"size": ["term"], "letters": ["term"], "filled": ["term", "filling"], "part_at": ["term", "place"]},
     papers: {"shown": ["paper"]},
     walks: {"walked": ["book", "term", "moves"]},
+    folding: {"folded": ["book", "term", "moves"]},
+    sharing: {"shortened": ["paper"], "set_in_order": ["paper"], "told_apart": ["one", "other"], "uses": ["paper"]},
+    texts: {"term_text": ["term"], "written": ["paper"], "read": ["text"]},
 }
+
+METHODS = {"length": ["I"], "move": ["I", "k"], "term": ["I", "k"], "walk": ["I", "most"]}
 
 
 class Functions(unittest.TestCase):
@@ -24,6 +29,17 @@ class Functions(unittest.TestCase):
                     told = getattr(module, name)
                     self.assertEqual(told.__module__, module.__name__)
                     self.assertEqual(list(inspect.signature(told).parameters), arguments)
+
+
+class Classes(unittest.TestCase):
+    def test_unfolding_is_defined_in_its_file_with_its_methods(self):
+        told = unfolding.Unfolding
+        self.assertEqual(told.__module__, "proofshare.unfolding")
+        self.assertEqual(list(inspect.signature(told).parameters), ["paper"])
+        for name, arguments in METHODS.items():
+            with self.subTest(name=name):
+                self.assertIn(name, vars(told))
+                self.assertEqual(list(inspect.signature(vars(told)[name]).parameters)[1:], arguments)
 
 
 class Errors(unittest.TestCase):
@@ -41,7 +57,7 @@ class Errors(unittest.TestCase):
         self.assertEqual(errors.NoMove(4).number, 4)
 
     def test_each_tells_something(self):
-        for told in (errors.NoStep(3, "meet"), errors.NoMove(4), errors.BadTerm("no"), errors.TooLong("no")):
+        for told in (errors.NoStep(3, "meet"), errors.NoMove(4), errors.BadTerm("no"), errors.TooLong("no"), errors.BadText("no")):
             self.assertTrue(str(told))
 
 

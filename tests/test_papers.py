@@ -5,7 +5,9 @@ import unittest
 
 from proofshare.errors import BadTerm, NoStep
 from proofshare.papers import shown
-from tests.helper import BAD_BOOKS, BAD_FILLINGS, BAD_NAMES, BAD_TERMS, NIL, RULE, SIZE_100, SIZE_101, sign, tower, x
+from tests.helper import (
+    BAD_BOOKS, BAD_FILLINGS, BAD_NAMES, BAD_TERMS, NIL, RULE, SIZE_100, SIZE_101, fill, sign, tower, x,
+)
 
 A, B = x("a"), x("b")
 PLUS_NIL = (sign("plus", A, NIL), A)
@@ -14,10 +16,6 @@ SWAP = (sign("plus", A, B), sign("plus", B, A))
 FORGET = (sign("fst", A, B), A)
 MAKE = (NIL, sign("f", A))
 BOOK = (PLUS_NIL, SWAP, FORGET, MAKE)
-
-
-def fill(**terms):
-    return tuple(sorted(terms.items()))
 
 
 class Shown(unittest.TestCase):

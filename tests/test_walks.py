@@ -5,17 +5,13 @@ import unittest
 
 from proofshare.errors import BadTerm, NoMove
 from proofshare.walks import walked
-from tests.helper import BAD_BOOKS, BAD_FILLINGS, BAD_TERMS, NIL, RULE, SIZE_100, sign, tower, x
+from tests.helper import BAD_BOOKS, BAD_FILLINGS, BAD_TERMS, NIL, RULE, SIZE_100, fill, sign, tower, x
 
 A, B = x("a"), x("b")
 PLUS_NIL = (sign("plus", A, NIL), A)
 SWAP = (sign("plus", A, B), sign("plus", B, A))
 FORGET = (sign("fst", A, B), A)
 BOOK = (PLUS_NIL, SWAP, FORGET)
-
-
-def fill(**terms):
-    return tuple(sorted(terms.items()))
 
 
 class Walked(unittest.TestCase):

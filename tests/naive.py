@@ -98,7 +98,7 @@ def chance_move(chance, book, term, most):
     table = {}
     if not match(book[number][way], part_of(term, place), table):
         return None
-    for name in letters_of(book[number][1 - way]) - set(table):
+    for name in sorted(letters_of(book[number][1 - way]) - set(table)):
         table[name] = chance_term(chance)
     move = (place, number, way, changing(book[number], table))
     if len(list(places_of(done(book, term, move)))) > most:
@@ -135,7 +135,7 @@ def chance_term(chance, depth=2):
 
 
 def chance_filling(chance, names):
-    chosen = sorted(name for name in names if chance.random() < 0.6)
+    chosen = [name for name in sorted(names) if chance.random() < 0.6]
     return tuple((name, chance.choice([x(name), chance_term(chance)])) for name in chosen)
 
 
